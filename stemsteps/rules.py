@@ -1,0 +1,95 @@
+"""Rules, which exchange an ending, and steps, which choose the rule that is done."""
+
+from stemsteps.checks import ALPHABET, is_list, is_text_of, is_word_of
+from stemsteps.conditions import is_condition
+from stemsteps.errors import InvalidConditions, InvalidMode, InvalidRules, InvalidText, SameEnding
+
+
+class Rule:
+    """An ending, the text that is put in its place, and what the rest has to meet."""
+
+    def __init__(self, ending, put, *, conditions=()):
+        if not is_word_of(ending, ALPHABET):
+            raise InvalidText(ending)
+        if not is_text_of(put, ALPHABET):
+            raise InvalidText(put)
+        _check_conditions(conditions)
+        self._ending = ending
+        self._put = put
+        self._conditions = tuple(conditions)
+
+    @property
+    def ending(self):
+        """The text that the rule takes from the end of a word."""
+        return self._ending
+
+    @property
+    def put(self):
+        """The text that the rule puts in place of the ending, perhaps empty."""
+        return self._put
+
+    @property
+    def conditions(self):
+        """The tuple of the conditions that all have to hold for the rest."""
+        return self._conditions
+
+    def __eq__(self, other):
+        return (
+            isinstance(other, Rule)
+            and self._ending == other._ending
+            and self._put == other._put
+            and self._conditions == other._conditions
+        )
+
+
+class Step:
+    """Rules in order, of which at most one is done at a word, and the mode that tells which."""
+
+    def __init__(self, rules, *, mode="longest"):
+        _check_rules(rules)
+        if mode not in ("longest", "first"):
+            raise InvalidMode(mode)
+        if mode == "longest":
+            _check_endings(rules)
+        self._rules = tuple(rules)
+        self._mode = mode
+
+    @property
+    def rules(self):
+        """The tuple of the rules."""
+        return self._rules
+
+    @property
+    def mode(self):
+        """Which rule is done: "longest" or "first"."""
+        return self._mode
+
+    def __eq__(self, other):
+        return isinstance(other, Step) and self._rules == other._rules and self._mode == other._mode
+
+
+def _check_conditions(conditions):
+    """Raise an error if a value is not a list of conditions."""
+    if not is_list(conditions):
+        raise InvalidConditions(None)
+    for place, condition in enumerate(conditions):
+        if not is_condition(condition):
+            raise InvalidConditions(place)
+
+
+def _check_rules(rules):
+    """Raise an error if a value is not a list of rules."""
+    if not is_list(rules):
+        raise InvalidRules(None)
+    for place, rule in enumerate(rules):
+        if not isinstance(rule, Rule):
+            raise InvalidRules(place)
+
+
+def _check_endings(rules):
+    """Raise an error if two rules have the same ending."""
+    seen = set()
+    for rule in rules:
+        if rule.ending in seen:
+            raise SameEnding(rule.ending)
+        seen.add(rule.ending)
