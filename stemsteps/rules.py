@@ -23,6 +23,11 @@ class Rule:
         """The text that the rule takes from the end of a word."""
         return self._ending
 
+    @ending.setter
+    def ending(self, value):
+        # An error has a field of this name, so the name must have a setter; a rule stays as it is.
+        raise AttributeError("the ending of a rule cannot be changed")
+
     @property
     def put(self):
         """The text that the rule puts in place of the ending, perhaps empty."""

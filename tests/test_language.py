@@ -11,7 +11,7 @@ import stemsteps
 FOLDER = pathlib.Path(stemsteps.__file__).parent
 ALLOWED = set(
     "len range enumerate zip min max sum abs sorted reversed int str bool list tuple dict set isinstance ord repr"
-    " any all divmod property super NotImplemented ValueError TypeError KeyError IndexError".split()
+    " any all divmod property super NotImplemented ValueError TypeError KeyError IndexError AttributeError".split()
 )
 NO_NAMES = set("mro elements open input law version_info with_traceback add_note register".split())
 NO_WORDS = re.compile(r"\b(type|typing|enum|Enum|Generic|Protocol|ABC|namedtuple|TypedDict|abstractmethod)\b|dataclass")
@@ -33,6 +33,31 @@ def trees():
 
 def nodes(kind):
     return [(name, node) for name, tree in trees() for node in ast.walk(tree) if isinstance(node, kind)]
+
+
+def fixed_properties(tree):
+    """The names that some class has as a property without a setter."""
+    names = set()
+    for kind in ast.walk(tree):
+        if isinstance(kind, ast.ClassDef):
+            told = [(node.name, ast.unparse(row)) for node in kind.body if isinstance(node, ast.FunctionDef)
+                    for row in node.decorator_list]
+            names |= {name for name, row in told if row == "property" and (name, f"{name}.setter") not in told}
+    return names
+
+
+def assigned_attributes(tree):
+    """The row and the name of each attribute that is assigned, in whichever way."""
+    for node in ast.walk(tree):
+        if isinstance(node, ast.Attribute) and isinstance(node.ctx, ast.Store):
+            yield node.lineno, node.attr
+        if isinstance(node, ast.Call) and ast.unparse(node.func) == "setattr":
+            yield node.lineno, ast.literal_eval(node.args[1])
+
+
+def fixed_names_assigned(told):
+    fixed = set().union(*[fixed_properties(tree) for _, tree in told])
+    return [(name, row, word) for name, tree in told for row, word in assigned_attributes(tree) if word in fixed]
 
 
 class Files(unittest.TestCase):
@@ -103,10 +128,28 @@ class Rows(unittest.TestCase):
     def test_l4_and_l5_decorators_and_double_underscores(self):
         for name, node in nodes(ast.FunctionDef):
             for row in node.decorator_list:
-                self.assertEqual(ast.unparse(row), "property", name)
+                self.assertIn(ast.unparse(row), ("property", f"{node.name}.setter"), name)
             self.assertIsNone(node.returns, name)
             if node.name.startswith("__"):
                 self.assertIn(node.name, BOUNDARY)
+
+    def test_l5_an_attribute_that_is_assigned_has_the_name_of_no_property_without_a_setter(self):
+        self.assertEqual(fixed_names_assigned(trees()), [])
+
+    def test_l5_the_way_in_which_such_attributes_are_found(self):
+        fixed = "class A:\n @property\n def many(self): return 1\n"
+        free = fixed + " @many.setter\n def many(self, value): pass\n"
+        for row in ("self.many = 1", "box.many += 1", "a, (b, *box.many) = c", "for box.many in c: pass",
+                    "box.many: int = 1", "with box as box.many: pass", "setattr(box, 'many', 1)"):
+            other = ast.parse(f"class B:\n def told(self):\n  {row}\n")
+            self.assertEqual(fixed_names_assigned([("a.py", ast.parse(fixed)), ("b.py", other)]), [("b.py", 3, "many")])
+            self.assertEqual(fixed_names_assigned([("a.py", ast.parse(free)), ("b.py", other)]), [])
+            # It is not enough that one of two classes has the setter.
+            both = [("a.py", ast.parse(free)), ("b.py", other), ("c.py", ast.parse(fixed))]
+            self.assertEqual(fixed_names_assigned(both), [("b.py", 3, "many")])
+        for row in ("self.most = 1", "many = 1", "a = box.many", "box.many[0] = 1"):
+            other = ast.parse(f"class B:\n def told(self):\n  {row}\n")
+            self.assertEqual(fixed_names_assigned([("a.py", ast.parse(fixed)), ("b.py", other)]), [])
 
     def test_l8_builtins(self):
         for name, node in nodes(ast.Name):

@@ -1,6 +1,6 @@
 import unittest
 
-from stemsteps.errors import InvalidConditions, InvalidText
+from stemsteps.errors import InvalidConditions, InvalidText, SameEnding
 from stemsteps.rules import Rule, Step
 from tests.things import ErrorTests, not_lists, not_texts, odd_things
 
@@ -55,6 +55,20 @@ class RuleProperties(unittest.TestCase):
     def test_by_name(self):
         rule = Rule(conditions=[("vowel",)], put="y", ending="x")
         self.assertEqual((rule.ending, rule.put, rule.conditions), ("x", "y", (("vowel",),)))
+
+    def test_the_properties_cannot_be_assigned(self):
+        rule = Rule("x", "y", conditions=[("vowel",)])
+        for name in ("ending", "put", "conditions"):
+            with self.assertRaises(AttributeError):
+                setattr(rule, name, "z")
+        self.assertTrue(rule == Rule("x", "y", conditions=[("vowel",)]))
+        self.assertEqual((rule.ending, rule.put, rule.conditions), ("x", "y", (("vowel",),)))
+
+    def test_the_ending_of_an_error_can_be_anything_beside_it(self):
+        error = SameEnding(["a"])
+        error.ending = None
+        self.assertIsNone(error.ending)
+        self.assertEqual(Rule("a", "").ending, "a")
 
     def test_conditions_only_by_name(self):
         with self.assertRaises(TypeError):
