@@ -1,6 +1,6 @@
 """What several modules ask of the arguments that they are given."""
 
-from stemsteps.errors import InvalidLetters, InvalidText, InvalidVowels
+from stemsteps.errors import InvalidLetters, InvalidNumber, InvalidText, InvalidVowels
 
 ALPHABET = "abcdefghijklmnopqrstuvwxyz"
 
@@ -52,3 +52,11 @@ def check_text(text, letters):
     """Raise an error if a value is not a text of these letters, perhaps of none."""
     if not is_text_of(text, letters):
         raise InvalidText(text)
+
+
+def check_rule_place(steps, step, rule):
+    """Raise an error if two values are not the number of one of the steps and that of a rule of it."""
+    if not is_place(step, len(steps)):
+        raise InvalidNumber(step)
+    if not is_place(rule, len(steps[step].rules)):
+        raise InvalidNumber(rule)

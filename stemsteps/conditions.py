@@ -39,7 +39,8 @@ def plain_condition(condition):
 
 def has_vowel(text, vowels):
     """Whether a vowel stands in a text."""
-    return any([letter in vowels for letter in text])
+    # Vowels are few, and a text may be long.
+    return any([vowel in text for vowel in vowels])
 
 
 def count_runs(text, vowels):

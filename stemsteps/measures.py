@@ -1,6 +1,6 @@
 """The numbers that bound what a stemmer looks at, and the sight of a text by them."""
 
-from stemsteps.conditions import count_runs, has_vowel, plain_condition
+from stemsteps.conditions import count_runs, has_vowel, is_met, plain_condition
 
 
 def bounds_of(steps, exceptions):
@@ -22,9 +22,25 @@ def sight_of(text, vowels, bounds):
     return (
         text[max(0, len(text) - last):],
         has_vowel(text, vowels),
-        min(runs, count_runs(text, vowels)),
+        min(runs, count_runs(text, vowels)) if runs > 0 else 0,
         min(letters, len(text)),
     )
+
+
+def holds_at_sight(condition, sight, vowels):
+    """Whether a condition holds for the texts of a sight, by a stemmer in which the condition stands."""
+    last, vowel, runs, least = sight
+    kind = condition[0]
+    if kind == "not":
+        return not holds_at_sight(condition[1], sight, vowels)
+    if kind == "vowel":
+        return vowel
+    if kind == "runs":
+        return runs >= condition[1]
+    if kind == "least":
+        return least >= condition[1]
+    # The conditions of the other kinds look at the last letters only.
+    return is_met(condition, last, vowels)
 
 
 def _plain_conditions(steps):

@@ -1,7 +1,7 @@
 """Rules, which exchange an ending, and steps, which choose the rule that is done."""
 
 from stemsteps.checks import ALPHABET, is_list, is_text_of, is_word_of
-from stemsteps.conditions import is_condition
+from stemsteps.conditions import is_condition, plain_condition
 from stemsteps.errors import InvalidConditions, InvalidMode, InvalidRules, InvalidText, SameEnding
 
 
@@ -52,8 +52,7 @@ class Step:
 
     def __init__(self, rules, *, mode="longest"):
         _check_rules(rules)
-        if mode not in ("longest", "first"):
-            raise InvalidMode(mode)
+        check_mode(mode)
         if mode == "longest":
             _check_endings(rules)
         self._rules = tuple(rules)
@@ -71,6 +70,27 @@ class Step:
 
     def __eq__(self, other):
         return isinstance(other, Step) and self._rules == other._rules and self._mode == other._mode
+
+
+def check_mode(mode):
+    """Raise an error if a value is not a mode of a step."""
+    if mode not in ("longest", "first"):
+        raise InvalidMode(mode)
+
+
+def texts_of_rule(rule):
+    """The texts of a rule in which letters stand: the shapes of its conditions are none of them."""
+    texts = [rule.ending, rule.put]
+    for condition in rule.conditions:
+        plain = plain_condition(condition)
+        if plain[0] == "ends":
+            texts.extend(plain[1])
+    return texts
+
+
+def rule_fits(rule, letters):
+    """Whether only these letters stand in the texts of a rule."""
+    return all([is_text_of(text, letters) for text in texts_of_rule(rule)])
 
 
 def _check_conditions(conditions):

@@ -1,11 +1,10 @@
 """Stemmers: steps, one after the other, and exceptions, that tell the stem of each word."""
 
-from stemsteps.checks import check_letters, check_text, check_vowels
-from stemsteps.checks import is_list, is_place, is_text_of, is_word_of
-from stemsteps.conditions import plain_condition
-from stemsteps.errors import InvalidExceptions, InvalidNumber, InvalidSteps
+from stemsteps.checks import check_letters, check_rule_place, check_text, check_vowels
+from stemsteps.checks import is_list, is_text_of, is_word_of
+from stemsteps.errors import InvalidExceptions, InvalidSteps
 from stemsteps.measures import bounds_of, sight_of
-from stemsteps.rules import Step
+from stemsteps.rules import Step, rule_fits
 from stemsteps.stepping import step_at
 
 
@@ -85,24 +84,11 @@ class Stemmer:
 
     def without(self, step, rule):
         """The stemmer without a rule; its step is kept, perhaps without rules."""
-        if not is_place(step, len(self._steps)):
-            raise InvalidNumber(step)
+        check_rule_place(self._steps, step, rule)
         changed = self._steps[step]
-        if not is_place(rule, len(changed.rules)):
-            raise InvalidNumber(rule)
         kept = Step(changed.rules[:rule] + changed.rules[rule + 1:], mode=changed.mode)
         steps = self._steps[:step] + (kept,) + self._steps[step + 1:]
         return Stemmer(self._letters, self._vowels, steps, exceptions=self._exceptions)
-
-
-def rule_fits(rule, letters):
-    """Whether only these letters stand in the texts of a rule; those of shapes are none of its texts."""
-    texts = [rule.ending, rule.put]
-    for condition in rule.conditions:
-        plain = plain_condition(condition)
-        if plain[0] == "ends":
-            texts.extend(plain[1])
-    return all([is_text_of(text, letters) for text in texts])
 
 
 def _check_steps(steps, letters):

@@ -5,7 +5,7 @@ from stemsteps.conditions import is_met
 
 def step_at(step, text, vowels):
     """The number of the rule of a step that is done at a text, or None, and the text behind the step."""
-    for number in _rules_to_try(step, text):
+    for number in rules_to_try(step, text):
         rule = step.rules[number]
         rest = text[:len(text) - len(rule.ending)]
         if all([is_met(condition, rest, vowels) for condition in rule.conditions]):
@@ -13,13 +13,18 @@ def step_at(step, text, vowels):
     return None, text
 
 
-def _rules_to_try(step, text):
+def rules_to_try(step, text):
     """The numbers of the rules that may be done at a text, the first one ahead of the others."""
     standing = [number for number, rule in enumerate(step.rules) if text.endswith(rule.ending)]
     if step.mode == "first":
         return standing
     # A rule that is taken for its longest ending hides the others, also if its conditions fail.
     return _longest(step.rules, standing)
+
+
+def longest_ending(step):
+    """The length of the longest ending of a step, 0 for a step without rules."""
+    return max([len(rule.ending) for rule in step.rules], default=0)
 
 
 def _longest(rules, standing):

@@ -8,6 +8,15 @@ import stemsteps
 
 FUNCTIONS = {
     "stemsteps.conditions": {"is_condition": "(thing)", "holds": "(condition, rest, vowels)"},
+    "stemsteps.counting": {
+        "enough": "(one, other, question)", "count": "(one, other, question)", "words": "(letters, most)",
+    },
+    "stemsteps.comparing": {
+        "alike": "(one, other)", "settled": "(stemmer)", "exchanged": "(one, other)", "done": "(stemmer, step, rule)",
+        "needless": "(stemmer, step, rule)", "finer": "(one, other)", "changed": "(one, other)",
+    },
+    "stemsteps.groups": {"words_of": "(stemmer, stem)", "carry": "(one, other, stem)"},
+    "stemsteps.choosing": {"fewest": "(letters, vowels, rules, joined, parted, *, mode='longest')"},
 }
 CLASSES = {
     "stemsteps.rules": {

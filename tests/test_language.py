@@ -2,6 +2,7 @@
 
 import ast
 import builtins
+import functools
 import pathlib
 import re
 import unittest
@@ -27,6 +28,8 @@ def files():
     return sorted(path for path in FOLDER.rglob("*") if path.is_file() and "__pycache__" not in path.parts)
 
 
+# Kept, so that a node that is found twice is the very same.
+@functools.lru_cache(maxsize=None)
 def trees():
     return [(path.name, ast.parse(path.read_text(encoding="utf-8"))) for path in files()]
 
@@ -90,6 +93,8 @@ class Imports(unittest.TestCase):
     def test_l2_and_l16_from_the_very_file_that_defines_the_name(self):
         bodies = {name: tree.body for name, tree in trees()}
         for name, node in nodes(ast.ImportFrom):
+            if node.module == "itertools":
+                continue
             self.assertRegex(node.module, r"^stemsteps\.[a-z]+$")
             self.assertEqual(node.level, 0)
             defined = []
@@ -102,16 +107,49 @@ class Imports(unittest.TestCase):
                 self.assertIsNone(alias.asname)
                 self.assertIn(alias.name, defined, name)
 
+    def test_l2_of_the_library_only_combinations(self):
+        found = [alias.name for _, node in nodes(ast.ImportFrom) if node.module == "itertools" for alias in node.names]
+        self.assertEqual(found, ["combinations"])
+
     def test_l16_no_circle(self):
         ahead = {name: set() for name, _ in trees()}
         for name, node in nodes(ast.ImportFrom):
-            ahead[name].add(node.module.partition(".")[2] + ".py")
+            if node.module != "itertools":
+                ahead[name].add(node.module.partition(".")[2] + ".py")
         for _ in range(len(ahead)):
             ahead = {name: {more for more in needed if ahead.get(more)} for name, needed in ahead.items()}
         self.assertEqual(set().union(*ahead.values()), set())
 
     def test_l16_the_init_file_imports_nothing(self):
         self.assertEqual([name for name, _ in nodes((ast.Import, ast.ImportFrom)) if name == "__init__.py"], [])
+
+
+class Generators(unittest.TestCase):
+    def iterated_at_once(self, names):
+        """The calls of these names; each is iterated by a for, and none of the names stands without a call."""
+        heads = [node.iter for _, node in nodes(ast.For)]
+        calls = [node for _, node in nodes(ast.Call) if isinstance(node.func, ast.Name) and node.func.id in names]
+        called = [node.func for node in calls]
+        for name, node in nodes(ast.Name):
+            if node.id in names:
+                self.assertTrue(any(node is other for other in called), (name, node.lineno))
+        for node in calls:
+            self.assertTrue(any(node is head for head in heads), ast.unparse(node))
+            self.assertEqual(node.keywords, [])
+        return calls
+
+    def test_l2_combinations(self):
+        for node in self.iterated_at_once(["combinations"]):
+            self.assertRegex(ast.unparse(node), r"^combinations\(range\(len\([a-z]+\)\), [a-z]+\)$")
+
+    def test_l23_generators(self):
+        made = [node.name for _, node in nodes(ast.FunctionDef)
+                if any(isinstance(row, (ast.Yield, ast.YieldFrom)) for row in ast.walk(node))]
+        self.assertEqual(made, ["words"])
+        defined = [node.name for _, node in nodes(ast.FunctionDef)]
+        self.assertEqual([defined.count(name) for name in made], [1])
+        for node in self.iterated_at_once(made):
+            self.assertEqual({type(given) for given in node.args}, {ast.Name}, ast.unparse(node))
 
 
 class Rows(unittest.TestCase):
